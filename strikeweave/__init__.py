@@ -1,0 +1,1 @@
+"""Strikeweave: sayings that strike one another, and which of them stand."""
