@@ -99,3 +99,106 @@ def telling(names, strikes, word):
         if (word[name] == "out") != (against.count("in") > 0):
             return False
     return True
+
+
+def sets_that(names, fits):
+    """The rising list of all sets, rising lists, of which fits is so."""
+    return sorted(list(some) for some in subsets(sorted(names)) if fits(list(some)))
+
+
+def all_standing(names, strikes):
+    return sets_that(names, lambda some: standing(strikes, some))
+
+
+def all_whole(names, strikes):
+    return sets_that(names, lambda some: whole(names, strikes, some))
+
+
+def all_outright(names, strikes):
+    return sets_that(names, lambda some: outright(names, strikes, some))
+
+
+def all_greatest(names, strikes):
+    found = all_standing(names, strikes)
+    return [some for some in found if not any(set(some) < set(other) for other in found)]
+
+
+def round_rows(names, strikes):
+    """The rows of all rounds, by the document's words."""
+    word, rows, number = {}, [], 0
+    while True:
+        number += 1
+        ins = [n for n in sorted(names) if n not in word
+               and all(word.get(one) == "out" for one, other in strikes if other == n)]
+        for name in ins:
+            word[name] = "in"
+        outs = [n for n in sorted(names) if n not in word
+                and any(word.get(one) == "in" for one, other in strikes if other == n)]
+        for name in outs:
+            word[name] = "out"
+        if not ins and not outs:
+            return rows + [(n, "open", None) for n in sorted(names) if n not in word]
+        rows += [(n, "in", number) for n in ins] + [(n, "out", number) for n in outs]
+
+
+def least_set(names, strikes):
+    """The least whole set: what is kept by the empty set, then by that, and so on."""
+    some = []
+    while kept(names, strikes, some) != some:
+        some = kept(names, strikes, some)
+    return some
+
+
+def ring_web(many):
+    """Names that strike one another in a ring, as (names, strikes)."""
+    names, strikes = row_web(many)
+    return names, strikes + [(names[-1], names[0])]
+
+
+def cliques(sizes):
+    """For each size so many names that all strike one another, as (names, strikes)."""
+    names, strikes = [], []
+    for first, size in zip("abcdefghijklmnopqrst", sizes):
+        some = [first + second for second in "abcdefghij"[:size]]
+        names += some
+        strikes += itertools.permutations(some, 2)
+    return names, strikes
+
+
+def pairs_of(text):
+    """The strikes that are written as words of two letters each."""
+    return [(word[0], word[1]) for word in text.split()]
+
+
+def drawn_web(source, many):
+    """A web of so many names with few, some or many strikes, as (names, strikes)."""
+    names = list("abcdefghijklmnopqrstuvwxyz"[:many])
+    share = source.choice((0.06, 0.12, 0.2, 0.35))
+    strikes = [pair for pair in itertools.product(names, names) if source.random() < share]
+    if source.random() < 0.4:
+        strikes = [(one, other) for one, other in strikes if one != other]
+    if source.random() < 0.4:
+        strikes = sorted(set(strikes) | {(other, one) for one, other in strikes if source.random() < 0.6})
+    return names, strikes
+
+
+def drawn_webs(seed, count, least_names, most_names):
+    """Webs of the sorts above, the same ones in each run."""
+    source = random.Random(seed)
+    return [drawn_web(source, source.randint(least_names, most_names)) for step in range(count)]
+
+
+def told_lists(thing):
+    """All lists within a told thing, itself too."""
+    found = [thing] if isinstance(thing, list) else []
+    if isinstance(thing, (list, tuple)):
+        for one in thing:
+            found += told_lists(one)
+    return found
+
+
+def spoil(thing):
+    """Changes each list within a told thing."""
+    for one in told_lists(thing):
+        one.reverse()
+        one.append("x")

@@ -99,6 +99,45 @@ class Language(unittest.TestCase):
                 if isinstance(node, ast.arg):
                     self.assertFalse(hasattr(builtins, given), (name, given))
 
+    def test_no_local_bears_the_name_of_an_import_or_a_class(self):
+        for path in files():
+            tree = ast.parse(path.read_text("ascii"))
+            taken = {one.name for one in tree.body if isinstance(one, ast.ClassDef)}
+            taken |= {one.name for row in tree.body if isinstance(row, ast.ImportFrom) for one in row.names}
+            for node in ast.walk(tree):
+                if isinstance(node, ast.arg):
+                    self.assertNotIn(node.arg, taken, path.name)
+                if isinstance(node, ast.Name) and isinstance(node.ctx, ast.Store):
+                    self.assertNotIn(node.id, taken, path.name)
+
+    def test_no_two_files_draw_from_one_another(self):
+        drawn = {}
+        for path in files():
+            rows = [one for one in ast.parse(path.read_text("ascii")).body if isinstance(one, ast.ImportFrom)]
+            drawn[path.stem] = {row.module.split(".")[1] for row in rows}
+        while drawn:
+            free = [name for name in drawn if not drawn[name] & set(drawn)]
+            self.assertNotEqual(free, [], "these draw from one another: " + " ".join(sorted(drawn)))
+            for name in free:
+                del drawn[name]
+
+    def test_is_stands_beside_none_true_and_false_alone(self):
+        for name, node in walk():
+            if isinstance(node, ast.Compare) and isinstance(node.ops[0], (ast.Is, ast.IsNot)):
+                self.assertIsInstance(node.comparators[0], ast.Constant, name)
+                self.assertIn(node.comparators[0].value, (None, True, False), name)
+
+    def test_sets_stand_in_their_places_alone(self):
+        for name, node in walk():
+            for below in ast.iter_child_nodes(node):
+                called = isinstance(below, ast.Call) and isinstance(below.func, ast.Name) and below.func.id == "set"
+                if not called and not isinstance(below, (ast.Set, ast.SetComp)):
+                    continue
+                counted = isinstance(node, ast.Call) and isinstance(node.func, ast.Name) and not node.keywords
+                kept = isinstance(node, ast.Assign) and isinstance(node.targets[0], ast.Name)
+                asked = isinstance(node, ast.Compare)
+                self.assertTrue(kept or asked or counted and node.func.id in ("len", "sorted"), (name, node.lineno))
+
     def test_methods_and_values(self):
         methods, values, asked = set(), set(), set()
         for name, node in walk():
