@@ -5,7 +5,12 @@ from strikeweave.kinds import is_listed, is_number, is_row_of
 
 def rounds(web):
     """The rows (name, word, round): round by round, in ahead of out, rising each; then all that stay open."""
-    words = {}
+    return rounds_beside(web, {})
+
+
+def rounds_beside(web, known):
+    """The same rows for all names but those whose words are known, a dict: these stay as they are."""
+    words = dict(known)
     rows = []
     number = 1
     fresh = one_round(web, words, number)

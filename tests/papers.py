@@ -163,6 +163,34 @@ def tree_otherwise(names, tree):
                 yield tree[:-1] + (tree[-1][:at] + (other,) + tree[-1][at + 1:],)
 
 
+def list_otherwise(things, others):
+    """A list with one left out, twice, exchanged, out of order, or of others."""
+    yield tuple(things)
+    yield things[::-1]
+    yield things + [None]
+    yield from THINGS
+    for at, one in enumerate(things):
+        yield things[:at] + things[at + 1:]
+        yield things[:at] + [one] + things[at:]
+        yield things + [one]
+        yield things[1:at + 1] + things[:1] + things[at + 1:]
+        for other in others(one):
+            yield things[:at] + [other] + things[at + 1:]
+
+
+def pair_otherwise(names, pair, others):
+    yield from THINGS
+    yield list(pair)
+    yield pair[:1]
+    yield pair + (None,)
+    yield pair[::-1]
+    for thing in THINGS + list(names):
+        yield (thing, pair[1])
+        yield (pair[0], thing)
+    for other in others(pair[1]):
+        yield (pair[0], other)
+
+
 def drawn(seed, things, most):
     """At most so many of these things, the same ones in each run."""
     things = list(things)
@@ -223,3 +251,42 @@ def granted_set(names, strikes):
     greatest = max(fit, key=len)
     assert all(set(some) <= set(greatest) for some in fit)
     return greatest
+
+
+def shows_won(names, strikes, name, kind, told):
+    """[16] by its words."""
+    if type(told) is not tuple or len(told) != 2 or told[0] not in ("asker", "doubter"):
+        return False
+    who, plan = told
+    if kind == "some" and who == "asker":
+        return is_set(names, plan) and name in plan and plain.standing(strikes, plan)
+    if kind == "some":
+        return shows_none(names, strikes, [name], plan)
+    size = 3 if who == "asker" else 2
+    if type(plan) not in (list, tuple) or not all(type(row) is tuple and len(row) == size for row in plan):
+        return False
+    if not is_set(names, [row[0] for row in plan]) or name not in [row[0] for row in plan]:
+        return False
+    return (are_answer_rows if who == "asker" else are_doubt_rows)(strikes, plan)
+
+
+def are_answer_rows(strikes, plan):
+    numbers = {name: number for name, number, answers in plan}
+    for name, number, answers in plan:
+        if type(number) is not int or type(answers) is not tuple:
+            return False
+        if not all(type(pair) is tuple and len(pair) == 2 for pair in answers):
+            return False
+        if [pair[0] for pair in answers] != sorted(one for one, other in strikes if other == name):
+            return False
+    for name, number, answers in plan:
+        for doubt, answer in answers:
+            if (answer, doubt) not in strikes or answer not in numbers or numbers[answer] >= number:
+                return False
+    return True
+
+
+def are_doubt_rows(strikes, plan):
+    doubted = {name for name, doubt in plan}
+    return all((doubt, name) in strikes and all(one in doubted for one, other in strikes if other == doubt)
+               for name, doubt in plan)

@@ -134,34 +134,6 @@ class ByHand(Looks):
         self.assertIs(self.ask([], [], [], ([], [])), True)
 
 
-def list_otherwise(things, others):
-    """A list with one left out, twice, exchanged, out of order, or of others."""
-    yield tuple(things)
-    yield things[::-1]
-    yield things + [None]
-    yield from papers.THINGS
-    for at, one in enumerate(things):
-        yield things[:at] + things[at + 1:]
-        yield things[:at] + [one] + things[at:]
-        yield things + [one]
-        yield things[1:at + 1] + things[:1] + things[at + 1:]
-        for other in others(one):
-            yield things[:at] + [other] + things[at + 1:]
-
-
-def pair_otherwise(names, pair, others):
-    yield from papers.THINGS
-    yield list(pair)
-    yield pair[:1]
-    yield pair + (None,)
-    yield pair[::-1]
-    for thing in papers.THINGS + list(names):
-        yield (thing, pair[1])
-        yield (pair[0], thing)
-    for other in others(pair[1]):
-        yield (pair[0], other)
-
-
 def why_otherwise(names, why):
     for word in ("struck", "never", "bare", "", None):
         yield (word, why[1])
@@ -190,10 +162,10 @@ def paper_otherwise(names, paper):
     yield list(paper)
     yield (drops, trees)
     yield paper + ([],)
-    for other in list_otherwise(trees, lambda pair: pair_otherwise(
+    for other in papers.list_otherwise(trees, lambda pair: papers.pair_otherwise(
             names, pair, lambda tree: papers.drawn(92, papers.tree_otherwise(names, tree), 200))):
         yield (other, drops)
-    for other in list_otherwise(drops, lambda pair: pair_otherwise(
+    for other in papers.list_otherwise(drops, lambda pair: papers.pair_otherwise(
             names, pair, lambda why: why_otherwise(names, why))):
         yield (trees, other)
 
