@@ -290,3 +290,87 @@ def are_doubt_rows(strikes, plan):
     doubted = {name for name, doubt in plan}
     return all((doubt, name) in strikes and all(one in doubted for one, other in strikes if other == doubt)
                for name, doubt in plan)
+
+
+def is_few_tree(names, strikes, number, held, barred, tree):
+    """A tree of [21] by its words."""
+    if type(tree) is not tuple:
+        return False
+    if len(tree) == 1 and same_kind(tree[0], "dear"):
+        return few_cost(strikes, held, barred) >= number
+    if len(tree) != 4 or not same_kind(tree[0], "name") or type(tree[1]) is not str or tree[1] not in names:
+        return False
+    word, x, first, second = tree
+    return (x not in held and x not in barred and is_few_tree(names, strikes, number, held + [x], barred, first)
+            and is_few_tree(names, strikes, number, held, barred + [x], second))
+
+
+def few_cost(strikes, held, barred):
+    between = sum(one in held and other in held for one, other in strikes)
+    by_barred = 0
+    for name in barred:
+        if all(one in barred for one, other in strikes if other == name):
+            by_barred += sum(one == name and other in held for one, other in strikes)
+    return between + by_barred
+
+
+def shows_fewest(names, strikes, name, told):
+    """[22] by its words."""
+    if type(told) is not tuple or len(told) != 4:
+        return False
+    number, gone, some, tree = told
+    if type(number) is not int or number < 0 or type(gone) not in (list, tuple) or len(gone) != number:
+        return False
+    if not all(type(pair) is tuple and pair in strikes for pair in gone):
+        return False
+    if not all(one < other for one, other in zip(gone, gone[1:])):
+        return False
+    left = [pair for pair in strikes if pair not in gone]
+    return (is_set(names, some) and name in some and plain.standing(left, some)
+            and is_few_tree(names, strikes, number, [name], [], tree))
+
+
+def drawn_few_tree(source, names, strikes, number, held, barred):
+    """A tree of [21] that is so, its nodes drawn; None where there is none."""
+    left = [name for name in names if name not in held and name not in barred]
+    if few_cost(strikes, held, barred) >= number and (not left or source.random() < 0.7):
+        return ("dear",)
+    if not left:
+        return None
+    x = source.choice(left)
+    trees = [drawn_few_tree(source, names, strikes, number, held + [x], barred),
+             drawn_few_tree(source, names, strikes, number, held, barred + [x])]
+    return None if None in trees else ("name", x, *trees)
+
+
+def few_tree_otherwise(names, tree):
+    """All trees of [21] with one thing otherwise at one node."""
+    yield from THINGS
+    yield list(tree)
+    yield ()
+    yield (tree,)
+    yield tree + (None,)
+    yield tree[:-1]
+    yield ("dear",)
+    yield ("dear", "dear")
+    yield ["dear"]
+    yield "dear"
+    for x in list(names) + ["zz", None, True, ["a"]]:
+        yield ("name", x, tree, tree)
+        yield ("name", x, ("dear",), ("dear",))
+    for word in ("dear", "name", "", "Dear", None, 0, ("dear",)):
+        yield (word,) + tree[1:]
+    if tree[0] == "name":
+        word, x, first, second = tree
+        yield (word, x, second, first)
+        yield (word, x, first)
+        yield (word, x, (first, second))
+        yield (word, x, [first], second)
+        yield first
+        yield second
+        for other in list(names) + THINGS:
+            yield (word, other, first, second)
+        for other in few_tree_otherwise(names, first):
+            yield (word, x, other, second)
+        for other in few_tree_otherwise(names, second):
+            yield (word, x, first, other)

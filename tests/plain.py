@@ -202,3 +202,16 @@ def spoil(thing):
     for one in told_lists(thing):
         one.reverse()
         one.append("x")
+
+
+def to_go(strikes, some):
+    """The strikes that must go that a set stands, by the words of [22]."""
+    between = [(one, other) for one, other in strikes if one in some and other in some]
+    unanswered = [(one, other) for one, other in strikes if other in some and one not in some
+                  and not any((mine, one) in strikes for mine in some)]
+    return sorted(between + unanswered)
+
+
+def least_cost(names, strikes, name):
+    """The least number of strikes that must go that a set with this name stands, all sets gone through."""
+    return min(len(to_go(strikes, some)) for some in subsets(names) if name in some)
