@@ -132,6 +132,9 @@ class NotSoWritten(Case):
     def test_ranks(self):
         for rank in ("10", "00", "01", "-1", "+1", "x", "", "1.", "\u00b2", "\u0663", "1 "):
             self.refused_anywhere("person x " + rank)
+        for sign in map(chr, range(32, 127)):
+            if sign not in "0123456789":
+                self.refused(["person x " + sign], 0)
 
     def test_kinds_and_other_words(self):
         for row in ("say x facts", "say x Fact", "say x ann", "say fact x", "say x fact fact1", "Person x 1", "people x 1",
